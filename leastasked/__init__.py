@@ -1,0 +1,1 @@
+"""Leastasked: a shelf of few places that keeps what is asked most."""
